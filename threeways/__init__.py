@@ -1,0 +1,1 @@
+"""Threeways: what three-way merges can promise."""
