@@ -15,3 +15,11 @@ class ErrorsCase(unittest.TestCase):
                 function(*arguments)
             self.assertIs(type(caught.exception), error)
             self.assertEqual(repr(arguments), repr(before))
+
+    def assert_fails_at(self, error, index, function, *arguments):
+        """Check that a call raises just this error with this index, and leaves its arguments as they were."""
+        self.assert_fails(error, function, *arguments)
+        with self.subTest(function=function.__name__, arguments=arguments):
+            with self.assertRaises(error) as caught:
+                function(*arguments)
+            self.assertEqual((type(caught.exception.index), caught.exception.index), (type(index), index))

@@ -5,7 +5,13 @@ import inspect
 import os
 import unittest
 
-DOCUMENT = os.path.join(os.path.dirname(__file__), "..", "..", "shared", "DOC.md")
+from threeways.desks import Desk
+
+HERE = os.path.dirname(__file__)
+
+DOCUMENT = os.path.join(HERE, "..", "..", "shared", "DOC.md")
+
+README = os.path.join(HERE, "..", "README.md")
 
 FUNCTIONS = {
     "ways": {
@@ -19,7 +25,20 @@ FUNCTIONS = {
         "can_hold": ["wanted"], "keepers": ["wanted"], "can_add": ["wanted"], "greatest_sets": [],
         "least_clashes": [], "clashes": ["wanted"], "nearest": ["way", "wanted"],
     },
+    "many": {
+        "merge_many": ["way", "base", "versions"], "count_outcomes": ["way", "base", "versions"],
+        "orders_agree": ["way", "base", "versions"], "groups_agree": ["way", "base", "versions"],
+    },
+    "documents": {"merge_documents": ["way", "base", "mine", "yours"], "changed_names": ["one", "other"]},
+    "texts": {
+        "write_way": ["way"], "write_document": ["document"], "read_way": ["text"], "read_document": ["text"],
+    },
+    "desks": {"Desk": ["way"]},
 }
+
+METHODS = {"run": ["self", "line"], "undo": ["self"]}
+
+PROPERTIES = ("documents", "merge")
 
 EXAMPLES = {
     "ways": '''\
@@ -57,6 +76,46 @@ can_add(("agreed", "fair", "mine"))]
 >>> keepers(("made", "fair"))
 raises BadPromises
 ''',
+    "many": '''\
+>>> from threeways.many import count_outcomes, groups_agree, merge_many, orders_agree
+>>> own, plain = ("base", "mine", "yours", "mine", "mine"), ("base", "mine", "yours", "mine", "refuse")
+>>> [merge_many(own, 0, (1, 2, 3)), count_outcomes(own, 0, (1, 2, 3)), groups_agree(own, 0, (1, 2, 3)), \
+merge_many(plain, 0, (1, 2, 1))]
+[1, 3, True, 'refused']
+>>> [orders_agree(plain, 0, (0, 4, 0, 4)), merge_many(plain, 7, ())]
+[True, 7]
+>>> merge_many(plain, 0, (1, "2"))
+raises BadVersions
+''',
+    "documents": '''\
+>>> from threeways.documents import changed_names, merge_documents
+>>> base, mine, yours = (("a", 1), ("b", 1), ("c", 1)), (("a", 2), ("b", 1)), (("a", 3), ("b", 7), ("c", 1))
+>>> merge_documents(("base", "mine", "yours", "mine", "refuse"), base, mine, yours)
+((('b', 7),), ('a',))
+>>> [changed_names(base, mine), changed_names(base, yours)]
+[('a', 'c'), ('a', 'b')]
+>>> changed_names((("b", 1), ("a", 1)), base)
+raises BadDocument
+''',
+    "texts": '''\
+>>> from threeways.texts import read_document, read_way, write_document, write_way
+>>> [write_way(("base", "mine", "yours", "mine", "refuse")), read_way("refuse base base base base")[0], \
+write_document((("a", 1), ("b", 20))), read_document("")]
+['base mine yours mine refuse', 'refuse', 'a=1 b=20', ()]
+>>> read_document("b=1 a=2")
+raises InvalidText
+''',
+    "desks": '''\
+>>> from threeways.desks import Desk
+>>> desk = Desk(("base", "mine", "yours", "mine", "refuse"))
+>>> [desk.run(line) for line in ("base a 1", "mine a 2", "yours a 3", "yours b 5", "merge", "refused", "yours a 1", \
+"merge", "refused")]
+[None, None, None, None, 'b=5', 'a', None, 'a=2 b=5', 'none']
+>>> [desk.undo(), desk.merge, desk.documents[0]]
+[None, ((('b', 5),), ('a',)), (('a', 1),)]
+>>> desk.run("hers a 1")
+raises InvalidText
+''',
 }
 
 
@@ -91,13 +150,32 @@ class InterfaceTest(unittest.TestCase):
                     self.assertEqual(function.__module__, "threeways." + file)
                     self.assertEqual(list(inspect.signature(function).parameters), arguments)
 
+    def test_the_class(self):
+        self.assertIsInstance(Desk, type)
+        for name, arguments in METHODS.items():
+            with self.subTest(name=name):
+                self.assertEqual(list(inspect.signature(vars(Desk)[name]).parameters), arguments)
+        for name in PROPERTIES:
+            with self.subTest(name=name):
+                self.assertIsInstance(vars(Desk)[name], property)
+
+    def assert_shows(self, example):
+        pairs = answers(example)
+        self.assertEqual(len(pairs), len([line for line in example.splitlines() if not line.startswith(">>> ")]))
+        for expected, got in pairs:
+            with self.subTest(expected=expected):
+                self.assertEqual(got, expected)
+
     def test_examples(self):
-        for file, example in EXAMPLES.items():
-            pairs = answers(example)
-            self.assertEqual(len(pairs) + example.count("import") + example.count(">>> plain"), example.count(">>>"))
-            for expected, got in pairs:
-                with self.subTest(file=file, expected=expected):
-                    self.assertEqual(got, expected)
+        self.assertEqual(set(EXAMPLES), set(FUNCTIONS))
+        for example in EXAMPLES.values():
+            self.assert_shows(example)
+
+    def test_examples_of_the_readme(self):
+        with open(README, encoding="utf-8") as readme:
+            blocks = [block for block in readme.read().split("```\n") if block.startswith(">>> ")]
+        self.assertGreater(len(blocks), 0)
+        self.assert_shows("".join(blocks))
 
     @unittest.skipUnless(os.path.isfile(DOCUMENT), "the document does not lie beside the project")
     def test_examples_stand_so_in_the_document(self):

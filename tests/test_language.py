@@ -10,7 +10,7 @@ FOLDER = os.path.dirname(threeways.__file__)
 
 BUILTINS = {
     "len", "range", "enumerate", "zip", "min", "max", "sum", "abs", "sorted", "reversed", "int", "str", "bool",
-    "list", "tuple", "dict", "set", "isinstance", "ord", "repr", "any", "all", "divmod", "super", "ValueError",
+    "list", "tuple", "dict", "set", "isinstance", "ord", "repr", "any", "all", "divmod", "super", "property", "ValueError",
 }
 
 BARRED_NODES = (
@@ -32,8 +32,11 @@ def files():
                 yield name, file.read()
 
 
-def is_package_import(node):
-    return isinstance(node, ast.ImportFrom) and node.level == 0 and node.module.startswith("threeways.")
+def is_right_import(node):
+    if not isinstance(node, ast.ImportFrom) or node.level != 0 or any(name.asname for name in node.names):
+        return False
+    names = {name.name for name in node.names}
+    return node.module.startswith("threeways.") or node.module == "itertools" and names == {"permutations"}
 
 
 def names_bound(tree):
@@ -66,9 +69,15 @@ class LanguageTest(unittest.TestCase):
         for name, text in files():
             for node in ast.walk(ast.parse(text)):
                 with self.subTest(file=name, line=getattr(node, "lineno", None)):
-                    self.assertTrue(is_package_import(node) or not isinstance(node, BARRED_NODES))
+                    self.assertTrue(is_right_import(node) or not isinstance(node, BARRED_NODES))
                     self.assertNotIsInstance(getattr(node, "value", None), float)
                     self.assertNotIn("%", str(getattr(node, "value", "")))
+
+    def test_decorators(self):
+        for name, text in files():
+            for node in ast.walk(ast.parse(text)):
+                for decorator in getattr(node, "decorator_list", []):
+                    self.assertEqual(ast.unparse(decorator), "property", name)
 
     def test_module_level(self):
         allowed = (ast.FunctionDef, ast.ClassDef, ast.Assign, ast.ImportFrom)

@@ -4,7 +4,7 @@ The letters o, a, b and c are those of the document: base o, mine a, yours b, an
 """
 
 from threeways.errors import BadPromise
-from threeways.ways import REFUSED, merged, require_way
+from threeways.ways import REFUSED, outcome, require_way
 
 # The letters in the line of each promise, in the order of a counterexample's values.
 LETTERS = {
@@ -21,13 +21,6 @@ LETTERS = {
     "told": "oab",
     "yours": "ob",
 }
-
-
-def outcome(way, o, a, b):
-    """Return the merge of three values, refused, too, if one of them is a refused merge."""
-    if REFUSED in (o, a, b):
-        return REFUSED
-    return merged(way, o, a, b)
 
 
 # Each of the next twelve functions returns whether the line of its promise is so for these values.

@@ -85,6 +85,13 @@ def merged(way, base, mine, yours):
     return REFUSED
 
 
+def outcome(way, base, mine, yours):
+    """Return what merged returns, and "refused", too, if one of the three is itself a refused merge."""
+    if REFUSED in (base, mine, yours):
+        return REFUSED
+    return merged(way, base, mine, yours)
+
+
 def case_index(base, mine, yours):
     """Return the index of the word that a way has for three values."""
     if mine == base:
