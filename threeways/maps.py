@@ -33,43 +33,8 @@ def can_add(wanted):
 
 def greatest_sets():
     """Return the ascending tuple of the sets of promises that some way keeps, and none with one more."""
-    return greatest_among(promises())
-
-
-def greatest_among(names):
-    """Return the ascending tuple of the greatest sets of some promises, the names, that some way keeps."""
-    kept = kept_among(names)
-    return tuple([one for one in kept if not lies_in_another(one, kept)])
-
-
-def kept_among(names):
-    """Return the ascending list of the different sets that the ways keep of some promises, the names."""
-    ways = all_ways()
-    kept = {way: () for way in ways}
-    for name in names:
-        for way in keeping(ways, name):
-            kept[way] = kept[way] + (name,)
-    return sorted(set(list(kept.values())))
-
-
-def lies_in(names, others):
-    """Return whether all of the names are among the others."""
-    return all(name in others for name in names)
-
-
-def lies_in_one(names, sets):
-    """Return whether the names lie in one of the sets."""
-    return any(lies_in(names, others) for others in sets)
-
-
-def lies_in_another(names, sets):
-    """Return whether the names lie in one of the sets that is not just the names."""
-    return any(lies_in(names, others) for others in sets if others != names)
-
-
-def has_one_within(names, sets):
-    """Return whether one of the sets lies in the names."""
-    return any(lies_in(others, names) for others in sets)
+    names = promises()
+    return tuple(sorted([names_of(bits, names) for bits in greatest_among(names)]))
 
 
 def least_clashes():
@@ -80,22 +45,56 @@ def least_clashes():
 def clashes(wanted):
     """Return the tuple of the least clashes that lie in wanted promises, in the order of least_clashes."""
     require_promises(wanted)
-    greatest = greatest_among(wanted)
-    found = []
-    kept = [()]
-    while kept:
-        # Each part of a least clash is kept, so each one is a kept set with a promise added behind it.
-        longer = [names + (name,) for names in kept for name in names_behind(names, wanted)]
-        kept = [names for names in longer if lies_in_one(names, greatest)]
-        clashing = [names for names in longer if not lies_in_one(names, greatest)]
-        # The smaller ones have been found before, so what has none of them within is a least one.
-        found = found + [names for names in clashing if not has_one_within(names, found)]
-    return tuple(found)
+    # Promises clash if they lie in none of the greatest sets. What is found are the least ones that lie in
+    # none of those gone through: whatever lies in the next one needs a promise beyond it.
+    found = [0]
+    for greatest in greatest_among(wanted):
+        within = [bits for bits in found if lies_in(bits, greatest)]
+        found = [bits for bits in found if not lies_in(bits, greatest)]
+        longer = [bits | bit for bits in within for bit in bits_beyond(greatest, wanted)]
+        # None of the longer ones lies in another, since none of those within did.
+        found = found + [bits for bits in longer if not has_one_within(bits, found)]
+    return tuple(sorted(sorted([names_of(bits, wanted) for bits in found]), key=len))
 
 
-def names_behind(names, others):
-    """Return the list of those of the others that come behind each of the ascending names."""
-    return [other for other in others if names == () or names[-1] < other]
+# A set of some of the names is an integer in the functions below, since comparing those is quick: its lowest
+# bit is 1 if the first name is in the set, its next bit if the second one is, and so on.
+
+
+def greatest_among(names):
+    """Return the list of the greatest sets of promises among the names that some way keeps."""
+    kept = kept_among(names)
+    return [bits for bits in kept if len([other for other in kept if lies_in(bits, other)]) == 1]
+
+
+def kept_among(names):
+    """Return the list of the different sets that the ways keep of the promises among the names."""
+    ways = all_ways()
+    kept = {way: 0 for way in ways}
+    for index, name in enumerate(names):
+        for way in keeping(ways, name):
+            kept[way] = kept[way] | (1 << index)
+    return sorted(set(list(kept.values())))
+
+
+def names_of(bits, names):
+    """Return the tuple of those of the names that are in a set."""
+    return tuple([name for index, name in enumerate(names) if (bits >> index) & 1])
+
+
+def bits_beyond(bits, names):
+    """Return the list of the sets of one name, for each of the names that is not in a set."""
+    return [1 << index for index in range(len(names)) if not (bits >> index) & 1]
+
+
+def lies_in(bits, others):
+    """Return whether a set lies in another one."""
+    return bits | others == others
+
+
+def has_one_within(bits, sets):
+    """Return whether one of the sets lies in a set."""
+    return any(lies_in(one, bits) for one in sets)
 
 
 def nearest(way, wanted):

@@ -4,7 +4,7 @@ The letters o, a, b and c are those of the document: base o, mine a, yours b, an
 """
 
 from threeways.errors import BadPromise
-from threeways.ways import REFUSED, outcome, require_way
+from threeways.ways import REFUSED, merged, outcome, require_way
 
 # The letters in the line of each promise, in the order of a counterexample's values.
 LETTERS = {
@@ -24,59 +24,60 @@ LETTERS = {
 
 
 # Each of the next twelve functions returns whether the line of its promise is so for these values.
+# None of the values is a refused merge. So only what goes over a merge needs outcome instead of merged.
 
 
 def holds_again(way, o, a, b):
-    first = outcome(way, o, a, b)
+    first = merged(way, o, a, b)
     return outcome(way, o, first, b) == first
 
 
 def holds_agreed(way, o, a):
-    return outcome(way, o, a, a) == a
+    return merged(way, o, a, a) == a
 
 
 def holds_ahead(way, o, a, b):
-    return o in (a, b) or outcome(way, o, a, b) != o
+    return o in (a, b) or merged(way, o, a, b) != o
 
 
 def holds_back(way, o, a, b):
-    first = outcome(way, o, a, b)
-    return first == REFUSED or outcome(way, a, first, o) == b
+    first = merged(way, o, a, b)
+    return first == REFUSED or merged(way, a, first, o) == b
 
 
 def holds_chain(way, o, a, b, c):
-    left = outcome(way, o, outcome(way, o, a, b), c)
-    right = outcome(way, o, a, outcome(way, o, b, c))
+    left = outcome(way, o, merged(way, o, a, b), c)
+    right = outcome(way, o, a, merged(way, o, b, c))
     return left == right
 
 
 def holds_fair(way, o, a, b):
-    return outcome(way, o, a, b) == outcome(way, o, b, a)
+    return merged(way, o, a, b) == merged(way, o, b, a)
 
 
 def holds_made(way, o, a, b):
-    return outcome(way, o, a, b) != REFUSED
+    return merged(way, o, a, b) != REFUSED
 
 
 def holds_mine(way, o, a):
-    return outcome(way, o, a, o) == a
+    return merged(way, o, a, o) == a
 
 
 def holds_quiet(way, o):
-    return outcome(way, o, o, o) == o
+    return merged(way, o, o, o) == o
 
 
 def holds_steps(way, o, a, b, c):
-    first = outcome(way, o, a, b)
-    return first == REFUSED or outcome(way, b, first, c) == outcome(way, o, a, c)
+    first = merged(way, o, a, b)
+    return first == REFUSED or merged(way, b, first, c) == merged(way, o, a, c)
 
 
 def holds_told(way, o, a, b):
-    return o in (a, b) or a == b or outcome(way, o, a, b) == REFUSED
+    return o in (a, b) or a == b or merged(way, o, a, b) == REFUSED
 
 
 def holds_yours(way, o, b):
-    return outcome(way, o, o, b) == b
+    return merged(way, o, o, b) == b
 
 
 RULES = {
@@ -130,9 +131,12 @@ def profile(way):
 
 
 def keeping(ways, promise):
-    """Return those of the ways, which are known to be right, that keep a promise, in their order."""
-    tuples = least_tuples(len(LETTERS[promise]))
-    return [way for way in ways if first_break(way, promise, tuples) is None]
+    """Return the list of those of the ways, known to be right, that keep a promise, in their order."""
+    holds = RULES[promise]
+    kept = list(ways)
+    for values in least_tuples(len(LETTERS[promise])):
+        kept = [way for way in kept if holds(way, *values)]
+    return kept
 
 
 def first_break(way, promise, tuples):

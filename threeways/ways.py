@@ -46,10 +46,11 @@ def require_way(value):
 
 def all_ways():
     """Return the ascending tuple of all ways."""
-    ways = [()]
-    for words in WORDS:
-        ways = [way + (word,) for way in ways for word in words]
-    return tuple(ways)
+    same, only_mine, only_yours, both, unlike = WORDS
+    return tuple([
+        (first, second, third, fourth, fifth)
+        for first in same for second in only_mine for third in only_yours for fourth in both for fifth in unlike
+    ])
 
 
 def turned(way):
@@ -75,7 +76,12 @@ def merge(way, base, mine, yours):
 
 def merged(way, base, mine, yours):
     """Return what merge returns, for arguments that are known to be right."""
-    word = way[case_index(base, mine, yours)]
+    if mine == base:
+        word = way[0] if yours == base else way[2]
+    elif yours == base:
+        word = way[1]
+    else:
+        word = way[3] if mine == yours else way[4]
     if word == "base":
         return base
     if word == "mine":
@@ -90,12 +96,3 @@ def outcome(way, base, mine, yours):
     if REFUSED in (base, mine, yours):
         return REFUSED
     return merged(way, base, mine, yours)
-
-
-def case_index(base, mine, yours):
-    """Return the index of the word that a way has for three values."""
-    if mine == base:
-        return 0 if yours == base else 2
-    if yours == base:
-        return 1
-    return 3 if mine == yours else 4
